@@ -12,7 +12,7 @@ var (
 	all     = api.Pixel{255, 255, 255, 255}
 )
 
-// somePixels: each part told from the others, in one of them each; colours above their alpha too.
+// somePixels: ones whose four parts are told apart, and some whose colours are above their alpha.
 func somePixels() []api.Pixel {
 	return []api.Pixel{
 		nothing, all, {0, 0, 0, 255}, {255, 255, 255, 0}, {255, 0, 0, 0}, {0, 255, 0, 0}, {0, 0, 255, 0},
